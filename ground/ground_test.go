@@ -8,7 +8,7 @@ import (
 	"sgraffito/plan"
 )
 
-// P11.1, P12.1: a plan lies on a device of just its sectors and size, as layer 6
+// P11.1, P12.1, P13.1: a plan lies on a device of just its sectors and size, as layer 6
 // lays it out; a device that is nil counts ahead of a plan that may not be.
 func TestLay(t *testing.T) {
 	p := plan.Plan{Sectors: 60, Size: 96, Regions: 3, RegionSectors: 2, LogSectors: 4, Depth: 2, Memory: 8}
